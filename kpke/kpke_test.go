@@ -10,63 +10,64 @@ import (
 
 	"sodality/api"
 	"sodality/kpke"
+	"sodality/trial"
 )
 
 func keysOf(t *testing.T, seed []byte) (ek, dk []byte) {
 	t.Helper()
 	ek, dk, err := kpke.Keys(seed)
-	wantErr(t, "Keys", err, api.OK)
+	trial.WantErr(t, "Keys", err, api.OK)
 	return ek, dk
 }
 
 func textOf(t *testing.T, ek, m, coins []byte) []byte {
 	t.Helper()
 	c, err := kpke.Encrypt(ek, m, coins)
-	wantErr(t, "Encrypt", err, api.OK)
+	trial.WantErr(t, "Encrypt", err, api.OK)
 	return c
 }
 
 func messageOf(t *testing.T, dk, c []byte) []byte {
 	t.Helper()
 	m, err := kpke.Decrypt(dk, c)
-	wantErr(t, "Decrypt", err, api.OK)
+	trial.WantErr(t, "Decrypt", err, api.OK)
 	return m
 }
 
 // P5.1 (N5): keys of ordinary seeds, and of bytes that are all alike, by another way.
 func TestKeys(t *testing.T) {
-	for _, seed := range seedsOf(32, 8) {
+	for _, seed := range trial.Seeds(32, 8) {
 		ek, dk := keysOf(t, seed)
 		wantEk, wantDk := plainKeys(seed)
-		wantBytes(t, "the public key", ek, wantEk)
-		wantBytes(t, "the secret key", dk, wantDk)
+		trial.WantBytes(t, "the public key", ek, wantEk)
+		trial.WantBytes(t, "the secret key", dk, wantDk)
 	}
 }
 
 func TestKeysOfWrongLengths(t *testing.T) {
-	for _, n := range around(32) {
+	for _, n := range trial.Around(32) {
 		ek, dk, err := kpke.Keys(make([]byte, n))
-		wantErr(t, "Keys", err, api.ErrArg)
-		wantBytes(t, "beside an error", joined(ek, dk), nil)
+		trial.WantErr(t, "Keys", err, api.ErrArg)
+		trial.WantBytes(t, "beside an error", trial.Joined(ek, dk), nil)
 	}
 	_, _, err := kpke.Keys(nil)
-	wantErr(t, "Keys(nil)", err, api.ErrArg)
+	trial.WantErr(t, "Keys(nil)", err, api.ErrArg)
 }
 
 // P5.1 (N6): texts of ordinary keys, messages and coins, and of such as are all alike; keys too that nobody made, whose numbers are above q.
 func TestEncrypt(t *testing.T) {
 	r := rand.New(rand.NewSource(53))
 	ek, _ := keysOf(t, random(r, 32))
-	keys := append(seedsOf(1184, 4), ek)
-	for i, m := range seedsOf(32, 3) {
+	keys := append(trial.Seeds(1184, 4), ek)
+	for i, m := range trial.Seeds(32, 3) {
 		for j, coins := range [][]byte{make([]byte, 32), bytes.Repeat([]byte{255}, 32), random(r, 32)} {
 			key := keys[(i+j)%len(keys)]
-			wantBytes(t, "Encrypt", textOf(t, key, m, coins), plainEncrypt(key, m, coins))
+			trial.WantBytes(t, "Encrypt", textOf(t, key, m, coins), plainEncrypt(key, m, coins))
 		}
 	}
 	for _, key := range keys {
 		m, coins := random(r, 32), random(r, 32)
-		wantBytes(t, "Encrypt", textOf(t, key, m, coins), plainEncrypt(key, m, coins))
+		trial.WantBytes(t, "Encrypt", textOf(t, key, m, coins), plainEncrypt(key, m, coins))
 	}
 }
 
@@ -77,10 +78,10 @@ func TestEncryptOfWrongLengths(t *testing.T) {
 	try := func(what string, ek, m, coins []byte, want api.Errno) {
 		t.Helper()
 		c, err := kpke.Encrypt(ek, m, coins)
-		wantErr(t, what, err, want)
-		wantBytes(t, what, c, nil)
+		trial.WantErr(t, what, err, want)
+		trial.WantBytes(t, what, c, nil)
 	}
-	for _, n := range around(32) {
+	for _, n := range trial.Around(32) {
 		bad := make([]byte, n)
 		try("a wrong message", ek, bad, good, api.ErrArg)
 		try("wrong coins", ek, good, bad, api.ErrArg)
@@ -88,7 +89,7 @@ func TestEncryptOfWrongLengths(t *testing.T) {
 		try("a wrong message and key", nil, bad, good, api.ErrArg)
 		try("wrong coins and key", ek[:1183], good, bad, api.ErrArg)
 	}
-	for _, n := range append(around(1184), 1152, 2400) {
+	for _, n := range append(trial.Around(1184), 1152, 2400) {
 		try("a wrong key", make([]byte, n), good, good, api.ErrKey)
 	}
 	try("nil as a key", nil, good, good, api.ErrKey)
@@ -101,9 +102,9 @@ func TestEncryptOfWrongLengths(t *testing.T) {
 func TestDecrypt(t *testing.T) {
 	r := rand.New(rand.NewSource(54))
 	_, dk := keysOf(t, random(r, 32))
-	for _, key := range append(seedsOf(1152, 4), dk) {
-		for _, c := range seedsOf(1088, 4) {
-			wantBytes(t, "Decrypt", messageOf(t, key, c), plainDecrypt(key, c))
+	for _, key := range append(trial.Seeds(1152, 4), dk) {
+		for _, c := range trial.Seeds(1088, 4) {
+			trial.WantBytes(t, "Decrypt", messageOf(t, key, c), plainDecrypt(key, c))
 		}
 	}
 }
@@ -115,14 +116,14 @@ func TestDecryptOfWrongLengths(t *testing.T) {
 	try := func(what string, dk, c []byte, want api.Errno) {
 		t.Helper()
 		m, err := kpke.Decrypt(dk, c)
-		wantErr(t, what, err, want)
-		wantBytes(t, what, m, nil)
+		trial.WantErr(t, what, err, want)
+		trial.WantBytes(t, what, m, nil)
 	}
-	for _, n := range append(around(1152), 1184, 2400) {
+	for _, n := range append(trial.Around(1152), 1184, 2400) {
 		try("a wrong key", make([]byte, n), c, api.ErrKey)
 		try("a wrong key and text", make([]byte, n), c[1:], api.ErrKey)
 	}
-	for _, n := range append(around(1088), 960, 128) {
+	for _, n := range append(trial.Around(1088), 960, 128) {
 		try("a wrong text", dk, make([]byte, n), api.ErrBytes)
 	}
 	try("nil as a key", nil, c, api.ErrKey)
@@ -133,11 +134,11 @@ func TestDecryptOfWrongLengths(t *testing.T) {
 // P5.1 (N6, N7): what was encrypted is decrypted, by its own key.
 func TestThereAndBack(t *testing.T) {
 	r := rand.New(rand.NewSource(55))
-	for _, seed := range seedsOf(32, 20) {
+	for _, seed := range trial.Seeds(32, 20) {
 		ek, dk := keysOf(t, seed)
-		for _, m := range seedsOf(32, 3) {
+		for _, m := range trial.Seeds(32, 3) {
 			for _, coins := range [][]byte{make([]byte, 32), bytes.Repeat([]byte{255}, 32), random(r, 32)} {
-				wantBytes(t, "the message", messageOf(t, dk, textOf(t, ek, m, coins)), m)
+				trial.WantBytes(t, "the message", messageOf(t, dk, textOf(t, ek, m, coins)), m)
 			}
 		}
 	}
@@ -145,7 +146,7 @@ func TestThereAndBack(t *testing.T) {
 
 // Another key, or other coins, are another text; a text of another key says nothing of the message.
 func TestOthers(t *testing.T) {
-	m, coins := seedsOf(32, 1)[2], make([]byte, 32)
+	m, coins := trial.Seeds(32, 1)[2], make([]byte, 32)
 	ek, dk := keysOf(t, make([]byte, 32))
 	other, wrong := keysOf(t, bytes.Repeat([]byte{1}, 32))
 	c := textOf(t, ek, m, coins)
@@ -159,22 +160,22 @@ func TestOthers(t *testing.T) {
 
 // P5.1 (N5 to N7): all are those of the published standard, as the language's own ML-KEM has it.
 func TestPublishedStandard(t *testing.T) {
-	for _, seed := range seedsOf(32, 30) {
-		theirs, err := mlkem.NewDecapsulationKey768(joined(seed, make([]byte, 32)))
+	for _, seed := range trial.Seeds(32, 30) {
+		theirs, err := mlkem.NewDecapsulationKey768(trial.Joined(seed, make([]byte, 32)))
 		if err != nil {
 			t.Fatal(err)
 		}
 		ek, dk := keysOf(t, seed)
-		wantBytes(t, "the public key", ek, theirs.EncapsulationKey().Bytes())
-		m := joined(seed[16:], seed[:16])
+		trial.WantBytes(t, "the public key", ek, theirs.EncapsulationKey().Bytes())
+		m := trial.Joined(seed[16:], seed[:16])
 		shared, text, err := mlkemtest.Encapsulate768(theirs.EncapsulationKey(), m)
 		if err != nil {
 			t.Fatal(err)
 		}
 		sum := sha3.Sum256(ek)
-		both := sha3.Sum512(joined(m, sum[:]))
-		wantBytes(t, "the secret", shared, both[:32])
-		wantBytes(t, "the text", textOf(t, ek, m, both[32:]), text)
-		wantBytes(t, "the message", messageOf(t, dk, text), m)
+		both := sha3.Sum512(trial.Joined(m, sum[:]))
+		trial.WantBytes(t, "the secret", shared, both[:32])
+		trial.WantBytes(t, "the text", textOf(t, ek, m, both[32:]), text)
+		trial.WantBytes(t, "the message", messageOf(t, dk, text), m)
 	}
 }

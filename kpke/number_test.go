@@ -6,6 +6,7 @@ import (
 
 	"sodality/api"
 	"sodality/kpke"
+	"sodality/trial"
 )
 
 // numbers are those at the edges, and around each multiple of q and of some powers of 2.
@@ -132,16 +133,16 @@ func TestEncodeOfEdges(t *testing.T) {
 	for d := 1; d <= 12; d++ {
 		for _, n := range numbers() {
 			p := alternate(n, 1)
-			wantBytes(t, "Encode", kpke.Encode(d, p), plainEncode(d, p))
+			trial.WantBytes(t, "Encode", kpke.Encode(d, p), plainEncode(d, p))
 			p = alternate(0, n)
-			wantBytes(t, "Encode", kpke.Encode(d, p), plainEncode(d, p))
+			trial.WantBytes(t, "Encode", kpke.Encode(d, p), plainEncode(d, p))
 		}
 	}
-	wantBytes(t, "3329 of 12 bits", kpke.Encode(12, alternate(q, q)), make([]byte, 384))
-	wantBytes(t, "-1 of 12 bits", kpke.Encode(12, alternate(-1, -1))[:3], []byte{0x00, 0x0d, 0xd0})
-	wantBytes(t, "3329 of 11 bits", kpke.Encode(11, alternate(q, 0))[:2], []byte{0x01, 0x05})
-	wantBytes(t, "-1 of 4 bits", kpke.Encode(4, alternate(-1, 0))[:2], []byte{0x0f, 0x0f})
-	wantBytes(t, "-1 of 1 bit", kpke.Encode(1, alternate(-1, 0))[:2], []byte{0x55, 0x55})
+	trial.WantBytes(t, "3329 of 12 bits", kpke.Encode(12, alternate(q, q)), make([]byte, 384))
+	trial.WantBytes(t, "-1 of 12 bits", kpke.Encode(12, alternate(-1, -1))[:3], []byte{0x00, 0x0d, 0xd0})
+	trial.WantBytes(t, "3329 of 11 bits", kpke.Encode(11, alternate(q, 0))[:2], []byte{0x01, 0x05})
+	trial.WantBytes(t, "-1 of 4 bits", kpke.Encode(4, alternate(-1, 0))[:2], []byte{0x0f, 0x0f})
+	trial.WantBytes(t, "-1 of 1 bit", kpke.Encode(1, alternate(-1, 0))[:2], []byte{0x55, 0x55})
 }
 
 // P5.1 (N4): no bits, or more than 12, are nothing; 1 and 12 bits are something.

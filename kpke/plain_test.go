@@ -6,6 +6,7 @@ import (
 
 	"sodality/api"
 	"sodality/small"
+	"sodality/trial"
 )
 
 // What stands here tells the same things in another way: bits are those of one great number, halves are those of fractions, and products are those of the school, of polynomials that were brought back from their transforms.
@@ -106,12 +107,12 @@ func plainCentred(b []byte) api.Poly {
 }
 
 func plainNoise(secret []byte, n int) api.Poly {
-	return plainCentred(sha3.SumSHAKE256(joined(secret, []byte{byte(n)}), 128))
+	return plainCentred(sha3.SumSHAKE256(trial.Joined(secret, []byte{byte(n)}), 128))
 }
 
 // plainMatrix is the seed's at row i, column j, brought back.
 func plainMatrix(r []byte, i, j int) api.Poly {
-	return small.Inverse(plainUniform(joined(r, []byte{byte(j), byte(i)})))
+	return small.Inverse(plainUniform(trial.Joined(r, []byte{byte(j), byte(i)})))
 }
 
 // plainProduct is a times b modulo X^256 + 1, of numbers from 0 to q - 1.
@@ -140,7 +141,7 @@ func plainSum(all ...api.Poly) api.Poly {
 }
 
 func plainKeys(seed []byte) ([]byte, []byte) {
-	h := sha3.Sum512(joined(seed, []byte{3}))
+	h := sha3.Sum512(trial.Joined(seed, []byte{3}))
 	r, s := h[:32], h[32:]
 	var ek, dk []byte
 	for i := range 3 {

@@ -7,11 +7,8 @@ import (
 
 	"sodality/api"
 	"sodality/kpke"
+	"sodality/trial"
 )
-
-func joined(parts ...[]byte) []byte {
-	return bytes.Join(parts, nil)
-}
 
 func random(r *rand.Rand, n int) []byte {
 	b := make([]byte, n)
@@ -27,13 +24,6 @@ func randomPoly(r *rand.Rand) api.Poly {
 	return p
 }
 
-func wantBytes(t *testing.T, what string, got, want []byte) {
-	t.Helper()
-	if !bytes.Equal(got, want) {
-		t.Fatalf("%s: got %d bytes %.40x, want %d bytes %.40x", what, len(got), got, len(want), want)
-	}
-}
-
 func wantPoly(t *testing.T, what string, got, want api.Poly) {
 	t.Helper()
 	for i := range got {
@@ -43,52 +33,24 @@ func wantPoly(t *testing.T, what string, got, want api.Poly) {
 	}
 }
 
-func wantErr(t *testing.T, what string, got, want api.Errno) {
-	t.Helper()
-	if got != want {
-		t.Fatalf("%s: got error %d, want %d", what, got, want)
-	}
-}
-
 // wantNoPoly: beside an error there is nothing.
 func wantNoPoly(t *testing.T, what string, p api.Poly, got, want api.Errno) {
 	t.Helper()
-	wantErr(t, what, got, want)
+	trial.WantErr(t, what, got, want)
 	wantPoly(t, what, p, api.Poly{})
-}
-
-// around are the lengths that are not n, those next to it first.
-func around(n int) []int {
-	out := []int{}
-	for _, m := range []int{n - 1, n + 1, 0, 1, n / 2, n - 2, n + 2, 2 * n, 2000} {
-		if m >= 0 && m != n {
-			out = append(out, m)
-		}
-	}
-	return out
-}
-
-// seedsOf are bytes all 0, all 255, and ordinary ones.
-func seedsOf(n, many int) [][]byte {
-	out := [][]byte{make([]byte, n), bytes.Repeat([]byte{255}, n)}
-	r := rand.New(rand.NewSource(int64(n)))
-	for range many {
-		out = append(out, random(r, n))
-	}
-	return out
 }
 
 // P5.1 (N1).
 func TestUniform(t *testing.T) {
-	for _, seed := range seedsOf(34, 200) {
+	for _, seed := range trial.Seeds(34, 200) {
 		p, err := kpke.Uniform(seed)
-		wantErr(t, "Uniform", err, api.OK)
+		trial.WantErr(t, "Uniform", err, api.OK)
 		wantPoly(t, "Uniform", p, plainUniform(seed))
 	}
 }
 
 func TestUniformOfWrongLengths(t *testing.T) {
-	for _, n := range append(around(34), 32) {
+	for _, n := range append(trial.Around(34), 32) {
 		p, err := kpke.Uniform(make([]byte, n))
 		wantNoPoly(t, "Uniform", p, err, api.ErrArg)
 	}
@@ -98,15 +60,15 @@ func TestUniformOfWrongLengths(t *testing.T) {
 
 // P5.1 (N2).
 func TestCentred(t *testing.T) {
-	for _, b := range seedsOf(128, 100) {
+	for _, b := range trial.Seeds(128, 100) {
 		p, err := kpke.Centred(b)
-		wantErr(t, "Centred", err, api.OK)
+		trial.WantErr(t, "Centred", err, api.OK)
 		wantPoly(t, "Centred", p, plainCentred(b))
 	}
 }
 
 func TestCentredOfWrongLengths(t *testing.T) {
-	for _, n := range around(128) {
+	for _, n := range trial.Around(128) {
 		p, err := kpke.Centred(bytes.Repeat([]byte{1}, n))
 		wantNoPoly(t, "Centred", p, err, api.ErrArg)
 	}
@@ -121,7 +83,7 @@ func TestCentredOfAlike(t *testing.T) {
 		{0x05, 0, 0}, {0x07, 1, 0}, {0x0d, 3328, 0}, {0x10, 0, 1}, {0x20, 0, 1}, {0x30, 0, 2}, {0x40, 0, 3328}, {0xc0, 0, 3327}, {0x3c, 3327, 2},
 	} {
 		p, err := kpke.Centred(bytes.Repeat([]byte{byte(x[0])}, 128))
-		wantErr(t, "Centred", err, api.OK)
+		trial.WantErr(t, "Centred", err, api.OK)
 		wantPoly(t, "Centred", p, alternate(x[1], x[2]))
 	}
 }
@@ -136,7 +98,7 @@ func TestCentredNumbers(t *testing.T) {
 			seen[n]++
 		}
 	}
-	for _, b := range seedsOf(128, 50) {
+	for _, b := range trial.Seeds(128, 50) {
 		p, _ := kpke.Centred(b)
 		for _, n := range p {
 			seen[n]++
@@ -159,7 +121,7 @@ func TestEncode(t *testing.T) {
 	for d := 1; d <= 12; d++ {
 		for range 20 {
 			p := randomPoly(r)
-			wantBytes(t, "Encode", kpke.Encode(d, p), plainEncode(d, p))
+			trial.WantBytes(t, "Encode", kpke.Encode(d, p), plainEncode(d, p))
 		}
 	}
 }
@@ -173,16 +135,16 @@ func TestEncodeOfOneBit(t *testing.T) {
 			want := make([]byte, 32*d)
 			at := i*d + d - 1
 			want[at/8] = 1 << (at % 8)
-			wantBytes(t, "Encode", kpke.Encode(d, p), want)
+			trial.WantBytes(t, "Encode", kpke.Encode(d, p), want)
 		}
 	}
 }
 
 func TestDecode(t *testing.T) {
 	for d := 1; d <= 12; d++ {
-		for _, b := range seedsOf(32*d, 20) {
+		for _, b := range trial.Seeds(32*d, 20) {
 			p, err := kpke.Decode(d, b)
-			wantErr(t, "Decode", err, api.OK)
+			trial.WantErr(t, "Decode", err, api.OK)
 			wantPoly(t, "Decode", p, plainDecode(d, b))
 		}
 	}
@@ -192,14 +154,14 @@ func TestDecode(t *testing.T) {
 func TestDecodeOfAlike(t *testing.T) {
 	for d := 1; d <= 12; d++ {
 		p, err := kpke.Decode(d, make([]byte, 32*d))
-		wantErr(t, "Decode of 0", err, api.OK)
+		trial.WantErr(t, "Decode of 0", err, api.OK)
 		wantPoly(t, "Decode of 0", p, api.Poly{})
 		want := 1<<d - 1
 		if d == 12 {
 			want = 766
 		}
 		p, err = kpke.Decode(d, bytes.Repeat([]byte{255}, 32*d))
-		wantErr(t, "Decode of 255", err, api.OK)
+		trial.WantErr(t, "Decode of 255", err, api.OK)
 		wantPoly(t, "Decode of 255", p, alternate(want, want))
 	}
 }
@@ -207,13 +169,13 @@ func TestDecodeOfAlike(t *testing.T) {
 // P5.1 (N4): of 12 bits 3328 stays, 3329 is 0.
 func TestDecodeAroundTheModulus(t *testing.T) {
 	p, err := kpke.Decode(12, bytes.Repeat([]byte{0x00, 0x1d, 0xd0}, 128))
-	wantErr(t, "Decode", err, api.OK)
+	trial.WantErr(t, "Decode", err, api.OK)
 	wantPoly(t, "Decode", p, alternate(3328, 0))
 }
 
 func TestDecodeOfWrongLengths(t *testing.T) {
 	for d := 1; d <= 12; d++ {
-		for _, n := range append(around(32*d), 32*(d+1), 32*(d-1)) {
+		for _, n := range append(trial.Around(32*d), 32*(d+1), 32*(d-1)) {
 			p, err := kpke.Decode(d, bytes.Repeat([]byte{255}, n))
 			wantNoPoly(t, "Decode", p, err, api.ErrBytes)
 		}
@@ -238,10 +200,10 @@ func TestDecodeBounds(t *testing.T) {
 // P5.2: what is decoded is encoded as it stood, below 12 bits.
 func TestDecodedIsEncodedAsItStood(t *testing.T) {
 	for d := 1; d <= 11; d++ {
-		for _, b := range seedsOf(32*d, 30) {
+		for _, b := range trial.Seeds(32*d, 30) {
 			p, err := kpke.Decode(d, b)
-			wantErr(t, "Decode", err, api.OK)
-			wantBytes(t, "Encode of Decode", kpke.Encode(d, p), b)
+			trial.WantErr(t, "Decode", err, api.OK)
+			trial.WantBytes(t, "Encode of Decode", kpke.Encode(d, p), b)
 		}
 	}
 }
@@ -256,7 +218,7 @@ func TestEncodedIsDecodedAsItWas(t *testing.T) {
 		}
 		for _, p := range polys {
 			back, err := kpke.Decode(d, kpke.Encode(d, p))
-			wantErr(t, "Decode of Encode", err, api.OK)
+			trial.WantErr(t, "Decode of Encode", err, api.OK)
 			wantPoly(t, "Decode of Encode", back, p)
 		}
 	}

@@ -1,0 +1,61 @@
+// Package trial is what tests of several layers share: bytes to try a call with, what is wanted of an answer, and lists that are lent. No layer stands on it.
+package trial
+
+import (
+	"bytes"
+	"slices"
+
+	"sodality/api"
+	"sodality/keccak"
+)
+
+// T is what a test tells its faults to; each *testing.T is one.
+type T interface {
+	Helper()
+	Fatalf(format string, args ...any)
+}
+
+// Ordinary are n bytes, at most 65536, that look like none in particular: others for each number.
+func Ordinary(n, which int) []byte {
+	return keccak.Shake128([]byte{byte(which), byte(which >> 8)}, n)
+}
+
+// Seeds are bytes all 0, all 255, and so many ordinary ones.
+func Seeds(n, many int) [][]byte {
+	out := [][]byte{make([]byte, n), bytes.Repeat([]byte{255}, n)}
+	for which := range many {
+		out = append(out, Ordinary(n, which))
+	}
+	return out
+}
+
+// Around are lengths that are not n, those next to it first.
+func Around(n int) []int {
+	some := []int{n - 1, n + 1, 0, 1, n / 2, n - 2, n + 2, 2 * n, 2000}
+	return slices.DeleteFunc(some, func(m int) bool { return m < 0 || m == n })
+}
+
+// Changed is b with some bits of one byte turned.
+func Changed(b []byte, at int, bits byte) []byte {
+	out := bytes.Clone(b)
+	out[at] ^= bits
+	return out
+}
+
+// Joined is all parts, one behind the other, in new memory.
+func Joined(parts ...[]byte) []byte { return bytes.Join(parts, nil) }
+
+// WantBytes and WantErr end a test that got something else.
+func WantBytes(t T, what string, got, want []byte) {
+	t.Helper()
+	if !bytes.Equal(got, want) {
+		t.Fatalf("%s: got %d bytes %.40x, want %d bytes %.40x", what, len(got), got, len(want), want)
+	}
+}
+
+func WantErr(t T, what string, got, want api.Errno) {
+	t.Helper()
+	if got != want {
+		t.Fatalf("%s: got error %d, want %d", what, got, want)
+	}
+}
