@@ -8,18 +8,27 @@ import (
 	"sodality/trial"
 )
 
-// heard is what a test would have been told.
-type heard struct{ faults int }
+// heard is a test that ends with its first fault.
+type heard struct{}
 
-func (h *heard) Helper() {}
+type fault struct{}
 
-func (h *heard) Fatalf(string, ...any) { h.faults++ }
+func (heard) Helper() {}
+
+func (heard) Fatalf(string, ...any) { panic(fault{}) }
 
 // found: does a want tell a fault?
-func found(want func(t trial.T)) bool {
-	var h heard
-	want(&h)
-	return h.faults > 0
+func found(want func(t trial.T)) (is bool) {
+	defer func() {
+		if r := recover(); r != nil {
+			_, is = r.(fault)
+			if !is {
+				panic(r)
+			}
+		}
+	}()
+	want(heard{})
+	return false
 }
 
 func TestBytesToTry(t *testing.T) {
