@@ -58,6 +58,6 @@ func TestPolynomialsHandedIn(t *testing.T) {
 	for d := 1; d <= 12; d++ {
 		p := alternate(math.MaxInt, -1)
 		kpke.Encode(d, p)
-		wantPoly(t, "Encode, handed in", p, alternate(math.MaxInt, -1))
+		trial.WantPoly(t, "Encode, handed in", p, alternate(math.MaxInt, -1))
 	}
 }

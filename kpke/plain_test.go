@@ -13,6 +13,8 @@ import (
 
 const q = 3329
 
+const school = trial.Modulus(q)
+
 // plainMod is n's remainder, by numbers of any size.
 func plainMod(n, m int) int {
 	return int(new(big.Int).Mod(big.NewInt(int64(n)), big.NewInt(int64(m))).Int64())
@@ -115,21 +117,6 @@ func plainMatrix(r []byte, i, j int) api.Poly {
 	return small.Inverse(plainUniform(trial.Joined(r, []byte{byte(j), byte(i)})))
 }
 
-// plainProduct is a times b modulo X^256 + 1, of numbers from 0 to q - 1.
-func plainProduct(a, b api.Poly) api.Poly {
-	var long [512]int
-	for i, x := range a {
-		for j, y := range b {
-			long[i+j] += x * y
-		}
-	}
-	var p api.Poly
-	for i := range p {
-		p[i] = plainMod(long[i]-long[i+256], q)
-	}
-	return p
-}
-
 func plainSum(all ...api.Poly) api.Poly {
 	var sum api.Poly
 	for _, p := range all {
@@ -147,7 +134,7 @@ func plainKeys(seed []byte) ([]byte, []byte) {
 	for i := range 3 {
 		t := plainNoise(s, 3+i)
 		for j := range 3 {
-			t = plainSum(t, plainProduct(plainMatrix(r, i, j), plainNoise(s, j)))
+			t = plainSum(t, school.Product(plainMatrix(r, i, j), plainNoise(s, j)))
 		}
 		ek = append(ek, plainEncode(12, small.NTT(t))...)
 		dk = append(dk, plainEncode(12, small.NTT(plainNoise(s, i)))...)
@@ -162,11 +149,11 @@ func plainEncrypt(ek, m, coins []byte) []byte {
 	for i := range 3 {
 		u := plainNoise(coins, 3+i)
 		for j := range 3 {
-			u = plainSum(u, plainProduct(plainMatrix(r, j, i), plainNoise(coins, j)))
+			u = plainSum(u, school.Product(plainMatrix(r, j, i), plainNoise(coins, j)))
 		}
 		c = append(c, plainEncode(10, plainEach(u, func(n int) int { return plainSqueeze(10, n) }))...)
 		t := small.Inverse(plainDecode(12, ek[384*i:384*i+384]))
-		v = plainSum(v, plainProduct(t, plainNoise(coins, i)))
+		v = plainSum(v, school.Product(t, plainNoise(coins, i)))
 	}
 	v = plainSum(v, plainEach(plainDecode(1, m), func(bit int) int { return 1665 * bit }))
 	return append(c, plainEncode(4, plainEach(v, func(n int) int { return plainSqueeze(4, n) }))...)
@@ -178,7 +165,7 @@ func plainDecrypt(dk, c []byte) []byte {
 	for j := range 3 {
 		u := plainEach(plainDecode(10, c[320*j:320*j+320]), func(n int) int { return plainStretch(10, n) })
 		x := small.Inverse(plainDecode(12, dk[384*j:384*j+384]))
-		less := plainEach(plainProduct(x, u), func(n int) int { return q - n })
+		less := plainEach(school.Product(x, u), func(n int) int { return q - n })
 		w = plainSum(w, less)
 	}
 	return plainEncode(1, plainEach(w, func(n int) int {

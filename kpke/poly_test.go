@@ -16,28 +16,11 @@ func random(r *rand.Rand, n int) []byte {
 	return b
 }
 
-func randomPoly(r *rand.Rand) api.Poly {
-	var p api.Poly
-	for i := range p {
-		p[i] = int(r.Uint64())
-	}
-	return p
-}
-
-func wantPoly(t *testing.T, what string, got, want api.Poly) {
-	t.Helper()
-	for i := range got {
-		if got[i] != want[i] {
-			t.Fatalf("%s: got %d at %d, want %d", what, got[i], i, want[i])
-		}
-	}
-}
-
 // wantNoPoly: beside an error there is nothing.
 func wantNoPoly(t *testing.T, what string, p api.Poly, got, want api.Errno) {
 	t.Helper()
 	trial.WantErr(t, what, got, want)
-	wantPoly(t, what, p, api.Poly{})
+	trial.WantPoly(t, what, p, api.Poly{})
 }
 
 // P5.1 (N1).
@@ -45,7 +28,7 @@ func TestUniform(t *testing.T) {
 	for _, seed := range trial.Seeds(34, 200) {
 		p, err := kpke.Uniform(seed)
 		trial.WantErr(t, "Uniform", err, api.OK)
-		wantPoly(t, "Uniform", p, plainUniform(seed))
+		trial.WantPoly(t, "Uniform", p, plainUniform(seed))
 	}
 }
 
@@ -63,7 +46,7 @@ func TestCentred(t *testing.T) {
 	for _, b := range trial.Seeds(128, 100) {
 		p, err := kpke.Centred(b)
 		trial.WantErr(t, "Centred", err, api.OK)
-		wantPoly(t, "Centred", p, plainCentred(b))
+		trial.WantPoly(t, "Centred", p, plainCentred(b))
 	}
 }
 
@@ -84,7 +67,7 @@ func TestCentredOfAlike(t *testing.T) {
 	} {
 		p, err := kpke.Centred(bytes.Repeat([]byte{byte(x[0])}, 128))
 		trial.WantErr(t, "Centred", err, api.OK)
-		wantPoly(t, "Centred", p, alternate(x[1], x[2]))
+		trial.WantPoly(t, "Centred", p, alternate(x[1], x[2]))
 	}
 }
 
@@ -117,10 +100,9 @@ func TestCentredNumbers(t *testing.T) {
 
 // P5.1 (N4).
 func TestEncode(t *testing.T) {
-	r := rand.New(rand.NewSource(51))
 	for d := 1; d <= 12; d++ {
-		for range 20 {
-			p := randomPoly(r)
+		for which := range 20 {
+			p := trial.Wild(20*d + which)
 			trial.WantBytes(t, "Encode", kpke.Encode(d, p), plainEncode(d, p))
 		}
 	}
@@ -145,7 +127,7 @@ func TestDecode(t *testing.T) {
 		for _, b := range trial.Seeds(32*d, 20) {
 			p, err := kpke.Decode(d, b)
 			trial.WantErr(t, "Decode", err, api.OK)
-			wantPoly(t, "Decode", p, plainDecode(d, b))
+			trial.WantPoly(t, "Decode", p, plainDecode(d, b))
 		}
 	}
 }
@@ -155,14 +137,14 @@ func TestDecodeOfAlike(t *testing.T) {
 	for d := 1; d <= 12; d++ {
 		p, err := kpke.Decode(d, make([]byte, 32*d))
 		trial.WantErr(t, "Decode of 0", err, api.OK)
-		wantPoly(t, "Decode of 0", p, api.Poly{})
+		trial.WantPoly(t, "Decode of 0", p, api.Poly{})
 		want := 1<<d - 1
 		if d == 12 {
 			want = 766
 		}
 		p, err = kpke.Decode(d, bytes.Repeat([]byte{255}, 32*d))
 		trial.WantErr(t, "Decode of 255", err, api.OK)
-		wantPoly(t, "Decode of 255", p, alternate(want, want))
+		trial.WantPoly(t, "Decode of 255", p, alternate(want, want))
 	}
 }
 
@@ -170,7 +152,7 @@ func TestDecodeOfAlike(t *testing.T) {
 func TestDecodeAroundTheModulus(t *testing.T) {
 	p, err := kpke.Decode(12, bytes.Repeat([]byte{0x00, 0x1d, 0xd0}, 128))
 	trial.WantErr(t, "Decode", err, api.OK)
-	wantPoly(t, "Decode", p, alternate(3328, 0))
+	trial.WantPoly(t, "Decode", p, alternate(3328, 0))
 }
 
 func TestDecodeOfWrongLengths(t *testing.T) {
@@ -210,16 +192,15 @@ func TestDecodedIsEncodedAsItStood(t *testing.T) {
 
 // P5.2: what is encoded is decoded as it was, once its numbers are below 2^d, or q.
 func TestEncodedIsDecodedAsItWas(t *testing.T) {
-	r := rand.New(rand.NewSource(52))
 	for d := 1; d <= 12; d++ {
 		polys := []api.Poly{{}, alternate(plainModulus(d)-1, 0), alternate(0, plainModulus(d)-1)}
-		for range 30 {
-			polys = append(polys, plainBrought(d, randomPoly(r)))
+		for which := range 30 {
+			polys = append(polys, plainBrought(d, trial.Wild(30*d+which)))
 		}
 		for _, p := range polys {
 			back, err := kpke.Decode(d, kpke.Encode(d, p))
 			trial.WantErr(t, "Decode of Encode", err, api.OK)
-			wantPoly(t, "Decode of Encode", back, p)
+			trial.WantPoly(t, "Decode of Encode", back, p)
 		}
 	}
 }
