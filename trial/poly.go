@@ -65,10 +65,10 @@ func (q Modulus) Brought(p api.Poly) api.Poly {
 // Edges are numbers around 0, the modulus and its half, those around what 32 bits hold, and the least and the greatest.
 func (q Modulus) Edges() []int {
 	m, half, wide := int(q), int(q-1)/2, math.MaxInt32
-	out := []int{0, math.MinInt, math.MinInt + m, math.MinInt / m * m}
+	out := []int{0, math.MinInt, math.MinInt + m}
 	for _, n := range []int{
 		1, 2, half - 1, half, half + 1, half + 2, m - 1, m, m + 1, 2*m - 1, 2 * m, 2*m + 1,
-		wide, wide + 1, wide + 2, math.MaxInt, math.MaxInt - 1, math.MaxInt - m, math.MaxInt / 2,
+		wide, wide + 1, wide + 2, math.MaxInt, math.MaxInt - 1, math.MaxInt - m, math.MaxInt / m * m, math.MaxInt / 2,
 	} {
 		out = append(out, n, -n)
 	}
