@@ -41,10 +41,10 @@ func (k keys) tagOf(ahead, hidden []byte) tag {
 	return k.mac(text, hidden)
 }
 
-// isTag compares not both tags, but their own tags: how long it takes to compare arrays tells where they part, and who forges a tag must not learn how much of it is right.
+// isTag compares the tags themselves, but only where their own tags are alike: how long it takes to compare arrays tells where they part, and who forges a tag must not learn how much of it is right.
 func (k keys) isTag(t tag, ahead, hidden []byte) bool {
 	right := k.tagOf(ahead, hidden)
-	return k.mac(t[:]) == k.mac(right[:])
+	return k.mac(t[:]) == k.mac(right[:]) && t == right
 }
 
 func (k keys) mac(parts ...[]byte) tag {
