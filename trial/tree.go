@@ -35,14 +35,7 @@ func WantNode(t T, what string, got, want api.Node) {
 	for i, s := range textsOf(&got) {
 		WantBytes(t, what+", text of a node", *s, *texts[i])
 	}
-	wantNumbers(t, what, got.Unmerged, want.Unmerged)
-}
-
-func wantNumbers(t T, what string, got, want []int) {
-	t.Helper()
-	if !slices.Equal(got, want) {
-		t.Fatalf("%s: got %d Unmerged, want %d", what, got, want)
-	}
+	WantNumbers(t, what+", Unmerged", got.Unmerged, want.Unmerged)
 }
 
 func textsOf(n *api.Node) []*[]byte { return []*[]byte{&n.Ek, &n.Vk, &n.Name, &n.Above} }
@@ -108,6 +101,6 @@ func (l *LentTree) WantSame(t T, what string) {
 		WantBytes(t, what+", handed in", room, l.wereTexts[i])
 	}
 	for i, room := range l.numbers {
-		wantNumbers(t, what+", handed in", room, l.wereNumbers[i])
+		WantNumbers(t, what+", handed in", room, l.wereNumbers[i])
 	}
 }

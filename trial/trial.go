@@ -45,11 +45,25 @@ func Changed(b []byte, at int, bits byte) []byte {
 // Joined is all parts, one behind the other, in new memory.
 func Joined(parts ...[]byte) []byte { return bytes.Join(parts, nil) }
 
-// WantBytes and WantErr end a test that got something else.
+// WantBytes, WantNumbers, WantNumber and WantErr end a test that got something else.
 func WantBytes(t T, what string, got, want []byte) {
 	t.Helper()
 	if !bytes.Equal(got, want) {
 		t.Fatalf("%s: got %d bytes %.40x, want %d bytes %.40x", what, len(got), got, len(want), want)
+	}
+}
+
+func WantNumbers(t T, what string, got, want []int) {
+	t.Helper()
+	if !slices.Equal(got, want) {
+		t.Fatalf("%s: got %d, want %d", what, got, want)
+	}
+}
+
+func WantNumber(t T, what string, got, want int) {
+	t.Helper()
+	if got != want {
+		t.Fatalf("%s: got %d, want %d", what, got, want)
 	}
 }
 
