@@ -11,8 +11,8 @@ import (
 
 // small has a node of each kind, an Above, and a leaf that is Unmerged.
 func small() api.Tree {
-	t := treeOf(1, 1)
-	t.Nodes[1] = nodeOf(1, 1)
+	t := trial.TreeOf(1, 1)
+	t.Nodes[1] = trial.NodeOf(1, 1)
 	return t
 }
 
@@ -31,8 +31,8 @@ const (
 func piecesOf(t api.Tree) [][]byte {
 	out := [][]byte{{byte(t.Deep)}}
 	for _, n := range t.Nodes {
-		b := plainNode(n)
-		out = append(out, b[:1], plainText(n.Ek), plainText(n.Vk), plainText(n.Name), plainText(n.Above))
+		b := trial.NodeBytes(n)
+		out = append(out, b[:1], trial.TextBytes(n.Ek), trial.TextBytes(n.Vk), trial.TextBytes(n.Name), trial.TextBytes(n.Above))
 		for at := len(b) - 2 - 2*len(n.Unmerged); at < len(b); at += 2 {
 			out = append(out, b[at:at+2])
 		}
@@ -53,19 +53,19 @@ func with(t api.Tree, number, part int, other []byte) (b []byte, from int) {
 
 // P14.1 (Z5): told by hand.
 func TestBytesByHand(t *testing.T) {
-	b, err := rtree.Put(blankTree(0))
+	b, err := rtree.Put(trial.BlankTree(0))
 	trial.WantErr(t, "Put", err, api.OK)
 	trial.WantBytes(t, "a blank leaf alone", b, make([]byte, 8))
-	tree := treeOf(0, 0)
-	tree.Nodes[0].Name, tree.Nodes[0].Above = []byte("ab"), filled(32, 0)
+	tree := trial.TreeOf(0, 0)
+	tree.Nodes[0].Name, tree.Nodes[0].Above = []byte("ab"), trial.Filled(32, 0)
 	b, err = rtree.Put(tree)
 	trial.WantErr(t, "Put", err, api.OK)
-	trial.WantBytes(t, "a leaf alone", b, trial.Joined([]byte{0, 1, 0x44, 0xa0}, filled(ekBytes, 0), []byte{0x47, 0xa0}, filled(vkBytes, 1), []byte{2, 97, 98, 32}, filled(32, 0), []byte{0, 0}))
-	b, err = rtree.Put(base())
+	trial.WantBytes(t, "a leaf alone", b, trial.Joined([]byte{0, 1, 0x44, 0xa0}, trial.Filled(ekBytes, 0), []byte{0x47, 0xa0}, trial.Filled(vkBytes, 1), []byte{2, 97, 98, 32}, trial.Filled(32, 0), []byte{0, 0}))
+	b, err = rtree.Put(trial.BaseTree())
 	trial.WantErr(t, "Put", err, api.OK)
-	wantNumber(t, "how many bytes it has", len(b), 11911)
-	wantNumber(t, "Deep", int(b[0]), 2)
-	first := len(plainNode(base().Nodes[0]))
+	trial.WantNumber(t, "how many bytes it has", len(b), 11911)
+	trial.WantNumber(t, "Deep", int(b[0]), 2)
+	first := len(trial.NodeBytes(trial.BaseTree().Nodes[0]))
 	trial.WantBytes(t, "a node's first bytes", b[1+first:][:3], []byte{2, 0x44, 0xa0})
 	trial.WantBytes(t, "a node's bytes behind its key", b[1+first+3+ekBytes:][:3], []byte{0, 0, 32})
 	trial.WantBytes(t, "a node's last bytes", b[1+first+3+ekBytes+3+32:][:4], []byte{0, 1, 0, 1})
@@ -74,10 +74,10 @@ func TestBytesByHand(t *testing.T) {
 // P14.4: what is read is written as it stood, and what is written is read as it was: trees of all kinds are gone through with wantTold; here are those that are full.
 func TestThereAndBack(t *testing.T) {
 	for deep := range maxTree + 1 {
-		wantThereAndBack(t, withKeys(fullTree(deep), allAre))
+		wantThereAndBack(t, trial.WithKeys(trial.FullTree(deep), trial.AllAre))
 	}
 	for which := range 40 {
-		wantThereAndBack(t, mixedTree(which%7, 300+which))
+		wantThereAndBack(t, trial.MixedTree(which%7, 300+which))
 	}
 	for _, all := range oneChanged() {
 		for _, tree := range all {
@@ -93,7 +93,7 @@ func TestBytesCut(t *testing.T) {
 		wantNotGot(t, "cut", b[:n], api.ErrEnd)
 	}
 	wantNotGot(t, "nil", nil, api.ErrEnd)
-	deep := plainPut(withKeys(fullTree(maxTree), allAre))
+	deep := plainPut(trial.WithKeys(trial.FullTree(maxTree), trial.AllAre))
 	for _, n := range []int{1, 2, 3, 1000, 10000, len(deep) / 2, len(deep) - 2, len(deep) - 1} {
 		wantNotGot(t, "the deepest tree, cut", deep[:n], api.ErrEnd)
 	}
@@ -101,7 +101,7 @@ func TestBytesCut(t *testing.T) {
 
 // P14.1 (Z5): bytes that are left behind.
 func TestBytesLeft(t *testing.T) {
-	for _, tree := range trees() {
+	for _, tree := range trial.Trees() {
 		b := plainPut(tree)
 		for _, more := range [][]byte{{0}, {1}, {255}, make([]byte, 2), make([]byte, 7), make([]byte, 14), b} {
 			wantNotGot(t, "bytes behind", trial.Joined(b, more), api.ErrTree)
@@ -117,7 +117,7 @@ func TestDeepOfBytes(t *testing.T) {
 			if _, want := plainGet(b); want != api.OK {
 				wantNotGot(t, "a Deep", b, want)
 			} else {
-				wantThereAndBack(t, blankTree(deep))
+				wantThereAndBack(t, trial.BlankTree(deep))
 			}
 			if deep > maxTree {
 				wantNotGot(t, "a Deep above 6", b, api.ErrTree)
@@ -125,8 +125,8 @@ func TestDeepOfBytes(t *testing.T) {
 		}
 	}
 	for deep := range maxTree + 1 {
-		got, err := rtree.Get(trial.Joined([]byte{byte(deep)}, make([]byte, 7*(2*manyOf(deep)-1))))
-		wantMade(t, "blank ones", got, err, blankTree(deep))
+		got, err := rtree.Get(trial.Joined([]byte{byte(deep)}, make([]byte, 7*(2*trial.ManyOf(deep)-1))))
+		wantMade(t, "blank ones", got, err, trial.BlankTree(deep))
 		wantNotGot(t, "nothing behind Deep", []byte{byte(deep)}, api.ErrEnd)
 	}
 }
@@ -143,7 +143,7 @@ func TestLengthsOfTexts(t *testing.T) {
 				{[]byte{192}, api.ErrLong}, {[]byte{255, 255, 255, 255}, api.ErrLong}, {[]byte{64, 1, 7}, api.ErrLong}, {[]byte{64, 0}, api.ErrLong},
 				{trial.Joined([]byte{64, 63}, make([]byte, 63)), api.ErrLong}, {trial.Joined([]byte{128, 0, 4, 160}, make([]byte, ekBytes)), api.ErrLong}, {[]byte{128, 0, 0, 0}, api.ErrLong},
 				{[]byte{128, 16, 0, 1}, api.ErrTooMany}, {[]byte{191, 255, 255, 255}, api.ErrTooMany},
-				{long, api.ErrTree}, {plainText(make([]byte, 100)), api.ErrTree}, {plainText(make([]byte, 9000)), api.ErrTree}, {plainText([]byte{1}), map[bool]api.Errno{true: api.OK, false: api.ErrTree}[number == 2 && part == namePart]},
+				{long, api.ErrTree}, {trial.TextBytes(make([]byte, 100)), api.ErrTree}, {trial.TextBytes(make([]byte, 9000)), api.ErrTree}, {trial.TextBytes([]byte{1}), map[bool]api.Errno{true: api.OK, false: api.ErrTree}[number == 2 && part == namePart]},
 			} {
 				b, from := with(small(), number, part, x.bytes)
 				if x.want == api.OK {
@@ -183,8 +183,8 @@ func TestHowManyAreUnmerged(t *testing.T) {
 			wantNotGot(t, "all of them there", trial.Joined(b[:from+2], make([]byte, 2*many), make([]byte, 7*(2-number))), api.ErrTree)
 		}
 	}
-	tree := withKeys(fullTree(maxTree), allAre)
-	wantNumber(t, "as many as may be", len(tree.Nodes[63].Unmerged), 64)
+	tree := trial.WithKeys(trial.FullTree(maxTree), trial.AllAre)
+	trial.WantNumber(t, "as many as may be", len(tree.Nodes[63].Unmerged), 64)
 	wantThereAndBack(t, tree)
 	b, _ := with(tree, 63, manyPart, []byte{0, 65})
 	wantNotGot(t, "one more than may be", b, api.ErrTree)
@@ -204,16 +204,16 @@ func canBePut(tree api.Tree) bool {
 // P14.1 (Z5): bytes of trees that are not right.
 func TestBytesOfTreesThatAreNotRight(t *testing.T) {
 	tried := 0
-	for _, x := range wrongTrees() {
-		if !canBePut(x.tree) {
+	for _, x := range trial.WrongTrees() {
+		if !canBePut(x.Tree) {
 			continue
 		}
 		tried++
 		want := api.ErrTree
-		if x.tree.Deep <= maxTree && len(x.tree.Nodes) < 2*manyOf(x.tree.Deep)-1 {
+		if x.Tree.Deep <= maxTree && len(x.Tree.Nodes) < 2*trial.ManyOf(x.Tree.Deep)-1 {
 			want = api.ErrEnd
 		}
-		wantNotGot(t, x.name, plainPut(x.tree), want)
+		wantNotGot(t, x.Name, plainPut(x.Tree), want)
 	}
 	if tried < 200 {
 		t.Errorf("%d alone have been tried", tried)
@@ -259,7 +259,7 @@ func TestWhateverBytes(t *testing.T) {
 	errs := map[api.Errno]int{}
 	for which := range 4000 {
 		r := trial.Ordinary(16, which)
-		pieces := piecesOf(mixedTree(int(r[0])%3, which%16))
+		pieces := piecesOf(trial.MixedTree(int(r[0])%3, which%16))
 		for _, i := range r[1 : 1+which%3] {
 			at := int(i) % len(pieces)
 			pieces[at] = trial.Joined(pieces[at])

@@ -41,15 +41,15 @@ func bytesOf(l []int) []byte {
 // lentTrees are right and wrong, small and great, with room and without.
 func lentTrees() []api.Tree {
 	return []api.Tree{
-		{}, blankTree(0), base(), withKeys(fullTree(2), allAre), withKeys(treeOf(2, 0, 2), allAre), withKeys(treeOf(maxTree, 0, 2, 63), allAre), mixedTree(3, 5), withKeys(fullTree(maxTree), allAre),
-		{Deep: 1, Nodes: base().Nodes}, nodeSpoilt("", 3, func(n *api.Node) { n.Unmerged = []int{3, 0} }).tree,
+		{}, trial.BlankTree(0), trial.BaseTree(), trial.WithKeys(trial.FullTree(2), trial.AllAre), trial.WithKeys(trial.TreeOf(2, 0, 2), trial.AllAre), trial.WithKeys(trial.TreeOf(maxTree, 0, 2, 63), trial.AllAre), trial.MixedTree(3, 5), trial.WithKeys(trial.FullTree(maxTree), trial.AllAre),
+		{Deep: 1, Nodes: trial.BaseTree().Nodes}, trial.NodeSpoilt("", 3, func(n *api.Node) { n.Unmerged = []int{3, 0} }).Tree,
 	}
 }
 
 // P3: what is handed in is not changed, nor its spare room, whatever the answer is.
 func TestListsThatAreHandedIn(t *testing.T) {
 	for _, tree := range lentTrees() {
-		for _, leaf := range []api.Node{leafOf(5), leafOf(6), {}, nodeOf(1, 1)} {
+		for _, leaf := range []api.Node{trial.LeafOf(5), trial.LeafOf(6), {}, trial.NodeOf(1, 1)} {
 			for name, call := range calls() {
 				lent, lentLeaf := trial.LendTree(tree), trial.LendTree(api.Tree{Nodes: []api.Node{leaf}})
 				first := call(lent.Tree, lentLeaf.Nodes[0])
@@ -66,7 +66,7 @@ func TestListsThatAreHandedIn(t *testing.T) {
 // P3: Get changes nothing of its bytes, be they a tree's or none's, and keeps none of them.
 func TestBytesThatAreHandedIn(t *testing.T) {
 	var all trial.Calls
-	for _, b := range [][]byte{plainPut(base()), plainPut(blankTree(6)), plainPut(withKeys(fullTree(3), allAre)), {7}, {0}, make([]byte, 9)} {
+	for _, b := range [][]byte{plainPut(trial.BaseTree()), plainPut(trial.BlankTree(6)), plainPut(trial.WithKeys(trial.FullTree(3), trial.AllAre)), {7}, {0}, make([]byte, 9)} {
 		all = append(all, trial.Call{Name: "Get", Take: [][]byte{b}, Do: func(take [][]byte) [][]byte {
 			tree, err := rtree.Get(take[0])
 			first := told(tree, 0, err)
@@ -85,7 +85,7 @@ func gotAgain(b []byte) api.Tree {
 // P3: bytes that come out are new memory, their spare room too: of each answer, and of the tree.
 func TestBytesThatComeOut(t *testing.T) {
 	var all trial.Calls
-	for _, tree := range []api.Tree{blankTree(0), base(), withKeys(fullTree(2), allAre)} {
+	for _, tree := range []api.Tree{trial.BlankTree(0), trial.BaseTree(), trial.WithKeys(trial.FullTree(2), trial.AllAre)} {
 		lent := trial.LendTree(tree)
 		all = append(all, trial.Call{Name: "Put", Do: func([][]byte) [][]byte {
 			lent.WantSame(t, "Put, behind a change of what came out")
@@ -104,7 +104,7 @@ func TestBytesThatComeOut(t *testing.T) {
 
 // P3: numbers that come out are new memory, their spare room too.
 func TestNumbersThatComeOut(t *testing.T) {
-	for _, tree := range []api.Tree{base(), withKeys(fullTree(2), allAre), treeOf(2, 1, 3)} {
+	for _, tree := range []api.Tree{trial.BaseTree(), trial.WithKeys(trial.FullTree(2), trial.AllAre), trial.TreeOf(2, 1, 3)} {
 		lent := trial.LendTree(tree)
 		asks := []func() []int{func() []int { return rtree.Leaves(lent.Tree) }}
 		for _, s := range spotsOf(2) {
@@ -116,10 +116,10 @@ func TestNumbersThatComeOut(t *testing.T) {
 			for _, other := range asks {
 				spoil(other())
 			}
-			wantNumbers(t, "asked anew", first, kept)
+			trial.WantNumbers(t, "asked anew", first, kept)
 			spoil(first)
-			wantNumbers(t, "behind a change of another", again, kept)
-			wantNumbers(t, "asked once more", ask(), kept)
+			trial.WantNumbers(t, "behind a change of another", again, kept)
+			trial.WantNumbers(t, "asked once more", ask(), kept)
 			lent.WantSame(t, "behind a change of what came out")
 		}
 	}
@@ -134,18 +134,18 @@ func spoil(l []int) {
 
 // P3: trees that are made of one tree may share lists with it, and so none of them changes another one, whatever is done to it by calls.
 func TestTreesThatAreMadeOfOne(t *testing.T) {
-	for _, first := range []api.Tree{base(), withKeys(fullTree(2), allAre), withKeys(treeOf(3, 0, 1, 2, 4, 7), allAre), blankTree(0), fullTree(1)} {
-		one, _ := wantAdded(t, first, leafOf(1))
+	for _, first := range []api.Tree{trial.BaseTree(), trial.WithKeys(trial.FullTree(2), trial.AllAre), trial.WithKeys(trial.TreeOf(3, 0, 1, 2, 4, 7), trial.AllAre), trial.BlankTree(0), trial.FullTree(1)} {
+		one, _ := wantAdded(t, first, trial.LeafOf(1))
 		kept := trial.CopiedTree(one)
-		two, i := wantAdded(t, one, leafOf(2))
+		two, i := wantAdded(t, one, trial.LeafOf(2))
 		keptTwo := trial.CopiedTree(two)
-		three, _ := wantAdded(t, one, leafOf(3))
+		three, _ := wantAdded(t, one, trial.LeafOf(3))
 		keptThree := trial.CopiedTree(three)
 		four := wantRemoved(t, two, i)
-		wantAdded(t, four, leafOf(4))
-		wantRenewed(t, two, i, leafOf(5))
+		wantAdded(t, four, trial.LeafOf(4))
+		wantRenewed(t, two, i, trial.LeafOf(5))
 		for _, leaf := range rtree.Leaves(three) {
-			wantAdded(t, wantRemoved(t, three, leaf), leafOf(6))
+			wantAdded(t, wantRemoved(t, three, leaf), trial.LeafOf(6))
 		}
 		trial.WantTree(t, "the first that was made", one, kept)
 		trial.WantTree(t, "one made of that", two, keptTwo)
@@ -155,14 +155,14 @@ func TestTreesThatAreMadeOfOne(t *testing.T) {
 
 // P3: the same arguments again, behind other calls and behind errors.
 func TestAskedAgain(t *testing.T) {
-	tree := base()
-	first, i := wantAdded(t, tree, leafOf(1))
+	tree := trial.BaseTree()
+	first, i := wantAdded(t, tree, trial.LeafOf(1))
 	b := plainPut(tree)
-	for _, x := range wrongUnmerged() {
-		wantNoTree(t, x.name, x.tree)
+	for _, x := range trial.WrongUnmerged() {
+		wantNoTree(t, x.Name, x.Tree)
 		wantNotGot(t, "no tree", b[:len(b)-1], api.ErrEnd)
-		again, at := wantAdded(t, tree, leafOf(1))
-		wantNumber(t, "the leaf, again", at, i)
+		again, at := wantAdded(t, tree, trial.LeafOf(1))
+		trial.WantNumber(t, "the leaf, again", at, i)
 		trial.WantTree(t, "added again", again, first)
 	}
 	wantTold(t, tree)

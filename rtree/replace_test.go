@@ -10,14 +10,14 @@ import (
 
 // P14.1 (Z4): each leaf of trees of all kinds is renewed and removed, if it is there, and refused, if it is not.
 func TestEachLeaf(t *testing.T) {
-	for _, tree := range trees() {
-		for i := range manyOf(tree.Deep) {
+	for _, tree := range trial.Trees() {
+		for i := range trial.ManyOf(tree.Deep) {
 			if tree.Nodes[2*i].Kind == api.IsLeaf {
-				wantStandsOver(t, wantRenewed(t, tree, i, leafOf(i+100)))
+				wantStandsOver(t, wantRenewed(t, tree, i, trial.LeafOf(i+100)))
 				wantStandsOver(t, wantRemoved(t, tree, i))
 				continue
 			}
-			wantNotRenewed(t, "a blank leaf", tree, i, leafOf(1), api.ErrLeaf)
+			wantNotRenewed(t, "a blank leaf", tree, i, trial.LeafOf(1), api.ErrLeaf)
 			wantNotRemoved(t, "a blank leaf", tree, i, api.ErrLeaf)
 		}
 	}
@@ -25,11 +25,11 @@ func TestEachLeaf(t *testing.T) {
 
 // P14.1 (Z4): leaves that are in no tree, and such as are in a deeper one alone.
 func TestNoLeafOfTheTree(t *testing.T) {
-	for _, tree := range trees() {
-		many := manyOf(tree.Deep)
-		for _, i := range append(noLeaves(), many, many+1, 2*many-2, 2*many-1, 2*many, -many) {
+	for _, tree := range trial.Trees() {
+		many := trial.ManyOf(tree.Deep)
+		for _, i := range append(trial.NoLeaves(), many, many+1, 2*many-2, 2*many-1, 2*many, -many) {
 			if i >= many || i < 0 {
-				wantNotRenewed(t, "no leaf", tree, i, leafOf(1), api.ErrLeaf)
+				wantNotRenewed(t, "no leaf", tree, i, trial.LeafOf(1), api.ErrLeaf)
 				wantNotRemoved(t, "no leaf", tree, i, api.ErrLeaf)
 			}
 		}
@@ -39,9 +39,9 @@ func TestNoLeafOfTheTree(t *testing.T) {
 // P14.1 (Z4), P14.3: all trees that are not deep.
 func TestReplacedInAllTreesThatAreNotDeep(t *testing.T) {
 	for deep := range 3 {
-		for _, tree := range allTrees(deep) {
+		for _, tree := range trial.AllTrees(deep) {
 			for _, i := range rtree.Leaves(tree) {
-				wantStandsOver(t, wantRenewed(t, tree, i, leafOf(100)))
+				wantStandsOver(t, wantRenewed(t, tree, i, trial.LeafOf(100)))
 				wantStandsOver(t, wantRemoved(t, tree, i))
 			}
 		}
@@ -50,24 +50,24 @@ func TestReplacedInAllTreesThatAreNotDeep(t *testing.T) {
 
 // P14.1 (Z4): told by hand: above it all is blank, and beside that all as it was.
 func TestRenewByHand(t *testing.T) {
-	tree := withKeys(fullTree(2), allAre)
-	out := wantRenewed(t, tree, 2, leafOf(50))
-	trial.WantNode(t, "the leaf", out.Nodes[4], leafOf(50))
+	tree := trial.WithKeys(trial.FullTree(2), trial.AllAre)
+	out := wantRenewed(t, tree, 2, trial.LeafOf(50))
+	trial.WantNode(t, "the leaf", out.Nodes[4], trial.LeafOf(50))
 	for number, kind := range []int{1, 2, 1, 0, 1, 0, 1} {
-		wantNumber(t, "a node's Kind", out.Nodes[number].Kind, kind)
+		trial.WantNumber(t, "a node's Kind", out.Nodes[number].Kind, kind)
 	}
-	wantNumbers(t, "Unmerged beside", out.Nodes[1].Unmerged, []int{0, 1})
-	wantNumbers(t, "what stands for all", rtree.Resolve(out, 2), []int{1, 0, 2, 4, 6})
-	same := wantRenewed(t, fullTree(2), 3, leafOf(3))
-	trial.WantTree(t, "renewed with what it was, where all above is blank", same, fullTree(2))
+	trial.WantNumbers(t, "Unmerged beside", out.Nodes[1].Unmerged, []int{0, 1})
+	trial.WantNumbers(t, "what stands for all", rtree.Resolve(out, 2), []int{1, 0, 2, 4, 6})
+	same := wantRenewed(t, trial.FullTree(2), 3, trial.LeafOf(3))
+	trial.WantTree(t, "renewed with what it was, where all above is blank", same, trial.FullTree(2))
 }
 
 // P14.1 (Z4): told by hand: who is Unmerged in nodes, and is removed, is Unmerged nowhere.
 func TestRemoveOfWhoIsUnmerged(t *testing.T) {
-	tree := withKeys(fullTree(2), allAre)
+	tree := trial.WithKeys(trial.FullTree(2), trial.AllAre)
 	out := wantRemoved(t, tree, 1)
 	for number, kind := range []int{1, 0, 0, 0, 1, 2, 1} {
-		wantNumber(t, "a node's Kind", out.Nodes[number].Kind, kind)
+		trial.WantNumber(t, "a node's Kind", out.Nodes[number].Kind, kind)
 	}
 	for number, n := range out.Nodes {
 		for _, i := range n.Unmerged {
@@ -76,8 +76,8 @@ func TestRemoveOfWhoIsUnmerged(t *testing.T) {
 			}
 		}
 	}
-	wantNumbers(t, "Unmerged beside", out.Nodes[5].Unmerged, []int{2, 3})
-	wantNumbers(t, "Leaves", rtree.Leaves(out), []int{0, 2, 3})
+	trial.WantNumbers(t, "Unmerged beside", out.Nodes[5].Unmerged, []int{2, 3})
+	trial.WantNumbers(t, "Leaves", rtree.Leaves(out), []int{0, 2, 3})
 }
 
 // P14.1 (Z4): the last leaf of the right half goes, and the tree is cut: once, more than once, and till nothing is above its leaf.
@@ -93,9 +93,9 @@ func TestCut(t *testing.T) {
 		{3, []int{0, 1, 2, 4}, 4, 2}, {3, []int{0, 7}, 7, 0}, {3, []int{1, 7}, 7, 1}, {3, []int{3, 7}, 7, 2}, {3, []int{3, 6, 7}, 7, 3},
 		{6, []int{0, 63}, 63, 0}, {6, []int{0, 63}, 0, 6}, {6, []int{1, 32}, 32, 1}, {6, []int{2, 63}, 63, 2}, {6, []int{31, 32}, 32, 5}, {6, []int{16, 60}, 60, 5}, {6, []int{15, 60}, 60, 4}, {6, []int{60}, 60, 0},
 	} {
-		for _, tree := range []api.Tree{treeOf(x.deep, x.leaves...), withKeys(treeOf(x.deep, x.leaves...), noneIs), withKeys(treeOf(x.deep, x.leaves...), allAre)} {
+		for _, tree := range []api.Tree{trial.TreeOf(x.deep, x.leaves...), trial.WithKeys(trial.TreeOf(x.deep, x.leaves...), trial.NoneIs), trial.WithKeys(trial.TreeOf(x.deep, x.leaves...), trial.AllAre)} {
 			out := wantRemoved(t, tree, x.remove)
-			wantNumber(t, "how deep it is then", out.Deep, x.want)
+			trial.WantNumber(t, "how deep it is then", out.Deep, x.want)
 			wantTold(t, out)
 		}
 	}
@@ -104,36 +104,36 @@ func TestCut(t *testing.T) {
 // P14.1 (Z4): a tree that could be cut ahead of it is so too, but Renew cuts none.
 func TestCutOfWhatWasEmpty(t *testing.T) {
 	for _, deep := range []int{1, 2, 3, maxTree} {
-		tree := withKeys(treeOf(deep, 0, 1), noneIs)
-		wantNumber(t, "how deep it is, behind Renew", wantRenewed(t, tree, 1, leafOf(2)).Deep, deep)
-		wantNumber(t, "how deep it is, behind Remove of the right one", wantRemoved(t, tree, 1).Deep, 0)
-		wantNumber(t, "how deep it is, behind Remove of the left one", wantRemoved(t, tree, 0).Deep, 1)
+		tree := trial.WithKeys(trial.TreeOf(deep, 0, 1), trial.NoneIs)
+		trial.WantNumber(t, "how deep it is, behind Renew", wantRenewed(t, tree, 1, trial.LeafOf(2)).Deep, deep)
+		trial.WantNumber(t, "how deep it is, behind Remove of the right one", wantRemoved(t, tree, 1).Deep, 0)
+		trial.WantNumber(t, "how deep it is, behind Remove of the left one", wantRemoved(t, tree, 0).Deep, 1)
 	}
 }
 
 // P14.1 (Z4), P14.3: all leaves go, from the last one, from the first one, and from the midst.
 func TestRemoveTillNoneIsThere(t *testing.T) {
-	for _, deep := range deeps() {
+	for _, deep := range trial.Deeps() {
 		for _, next := range []func(there []int) int{
 			func(there []int) int { return there[len(there)-1] }, func(there []int) int { return there[0] }, func(there []int) int { return there[len(there)/2] },
 		} {
-			tree := withKeys(fullTree(deep), allAre)
+			tree := trial.WithKeys(trial.FullTree(deep), trial.AllAre)
 			for there := rtree.Leaves(tree); len(there) > 0; there = rtree.Leaves(tree) {
 				tree = wantRemoved(t, tree, next(there))
-				wantNumber(t, "how many are there", len(rtree.Leaves(tree)), len(there)-1)
+				trial.WantNumber(t, "how many are there", len(rtree.Leaves(tree)), len(there)-1)
 			}
-			trial.WantTree(t, "what is left", tree, blankTree(0))
+			trial.WantTree(t, "what is left", tree, trial.BlankTree(0))
 		}
 	}
 }
 
 // P2: a leaf that is none is named ahead of a place that is none; both are behind a tree that is not right.
 func TestSeveralErrors(t *testing.T) {
-	for _, i := range append(noLeaves(), 2) {
-		wantNotRenewed(t, "no right leaf, and no place", base(), i, api.Node{}, api.ErrArg)
-		wantNotRenewed(t, "no place", base(), i, leafOf(1), api.ErrLeaf)
+	for _, i := range append(trial.NoLeaves(), 2) {
+		wantNotRenewed(t, "no right leaf, and no place", trial.BaseTree(), i, api.Node{}, api.ErrArg)
+		wantNotRenewed(t, "no place", trial.BaseTree(), i, trial.LeafOf(1), api.ErrLeaf)
 		wantNotRenewed(t, "all wrong", api.Tree{}, i, api.Node{}, api.ErrTree)
 	}
-	wantNotAdded(t, "no right leaf, and no room", fullTree(maxTree), api.Node{}, api.ErrArg)
-	wantNotAdded(t, "all wrong", fullTree(maxTree+1), api.Node{}, api.ErrTree)
+	wantNotAdded(t, "no right leaf, and no room", trial.FullTree(maxTree), api.Node{}, api.ErrArg)
+	wantNotAdded(t, "all wrong", trial.FullTree(maxTree+1), api.Node{}, api.ErrTree)
 }

@@ -1,28 +1,14 @@
 package rtree_test
 
 import (
+	"crypto/sha256"
 	"math"
-	"slices"
 	"testing"
 
 	"sodality/api"
 	"sodality/rtree"
 	"sodality/trial"
 )
-
-func wantNumbers(t *testing.T, what string, got, want []int) {
-	t.Helper()
-	if !slices.Equal(got, want) {
-		t.Fatalf("%s: got %d, want %d", what, got, want)
-	}
-}
-
-func wantNumber(t *testing.T, what string, got, want int) {
-	t.Helper()
-	if got != want {
-		t.Fatalf("%s: got %d, want %d", what, got, want)
-	}
-}
 
 func wantRight(t *testing.T, what string, tree api.Tree, want bool) {
 	t.Helper()
@@ -54,7 +40,7 @@ func wantAdded(t *testing.T, tree api.Tree, leaf api.Node) (api.Tree, int) {
 	want, place := plainAdd(tree, leaf)
 	got, i, err := rtree.Add(tree, leaf)
 	wantMade(t, "Add", got, err, want)
-	wantNumber(t, "the leaf that is added", i, place)
+	trial.WantNumber(t, "the leaf that is added", i, place)
 	return got, i
 }
 
@@ -77,7 +63,7 @@ func wantNotAdded(t *testing.T, what string, tree api.Tree, leaf api.Node, want 
 	t.Helper()
 	got, i, err := rtree.Add(tree, leaf)
 	wantNone(t, what+": Add", got, err, want)
-	wantNumber(t, what+": beside the error of Add", i, 0)
+	trial.WantNumber(t, what+": beside the error of Add", i, 0)
 }
 
 func wantNotRenewed(t *testing.T, what string, tree api.Tree, i int, leaf api.Node, want api.Errno) {
@@ -102,11 +88,11 @@ func wantNotGot(t *testing.T, what string, b []byte, want api.Errno) {
 func wantTold(t *testing.T, tree api.Tree) {
 	t.Helper()
 	wantRight(t, "a right tree", tree, true)
-	wantNumbers(t, "Leaves", rtree.Leaves(tree), plainLeaves(tree, part{0, manyOf(tree.Deep)}))
-	sums := plainSums(tree)
-	for _, p := range partsOf(tree.Deep) {
-		wantNumbers(t, "Resolve", rtree.Resolve(tree, p.spot()), plainResolve(tree, p))
-		trial.WantBytes(t, "Sum", rtree.Sum(tree, p.spot()), sums[p.number()])
+	trial.WantNumbers(t, "Leaves", rtree.Leaves(tree), trial.Whole(tree.Deep).There(tree))
+	sums := trial.SumsOf(tree, sha256.Sum256)
+	for _, p := range trial.PartsOf(tree.Deep) {
+		trial.WantNumbers(t, "Resolve", rtree.Resolve(tree, p.Spot()), p.Resolve(tree))
+		trial.WantBytes(t, "Sum", rtree.Sum(tree, p.Spot()), sums[p.Number()])
 	}
 	wantThereAndBack(t, tree)
 }
@@ -127,14 +113,14 @@ func wantThereAndBack(t *testing.T, tree api.Tree) {
 func wantNoTree(t *testing.T, name string, tree api.Tree) {
 	t.Helper()
 	wantRight(t, name, tree, false)
-	wantNumbers(t, name+": Leaves", rtree.Leaves(tree), nil)
+	trial.WantNumbers(t, name+": Leaves", rtree.Leaves(tree), nil)
 	for _, s := range append(noSpots(), spotsOf(maxTree+1)...) {
-		wantNumbers(t, name+": Resolve", rtree.Resolve(tree, s), nil)
+		trial.WantNumbers(t, name+": Resolve", rtree.Resolve(tree, s), nil)
 		trial.WantBytes(t, name+": Sum", rtree.Sum(tree, s), nil)
 	}
-	for _, leaf := range []api.Node{leafOf(1), {}, nodeOf(1)} {
+	for _, leaf := range []api.Node{trial.LeafOf(1), {}, trial.NodeOf(1)} {
 		wantNotAdded(t, name, tree, leaf, api.ErrTree)
-		for _, i := range append(noLeaves(), 0, 1, 2, 3, 63) {
+		for _, i := range append(trial.NoLeaves(), 0, 1, 2, 3, 63) {
 			wantNotRenewed(t, name, tree, i, leaf, api.ErrTree)
 			wantNotRemoved(t, name, tree, i, api.ErrTree)
 		}
@@ -146,8 +132,8 @@ func wantNoTree(t *testing.T, name string, tree api.Tree) {
 
 func spotsOf(deep int) []complex128 {
 	var out []complex128
-	for _, p := range partsOf(deep) {
-		out = append(out, p.spot())
+	for _, p := range trial.PartsOf(deep) {
+		out = append(out, p.Spot())
 	}
 	return out
 }
@@ -160,9 +146,4 @@ func noSpots() []complex128 {
 		out = append(out, complex(x, 0), complex(0, x), complex(x, x), complex(1, x), complex(x, 1))
 	}
 	return out
-}
-
-// noLeaves are in no tree.
-func noLeaves() []int {
-	return []int{-1, -2, -64, 64, 65, 127, 128, 1 << 16, 1<<32 + 1, 1 << 62, math.MinInt, math.MinInt + 1, math.MaxInt, math.MaxInt - 1}
 }
