@@ -35,6 +35,15 @@ func Around(n int) []int {
 	return slices.DeleteFunc(some, func(m int) bool { return m < 0 || m == n })
 }
 
+// Counted are 0, 1, 2 and so on, and 0 again behind 255.
+func Counted(n int) []byte {
+	out := make([]byte, n)
+	for i := range out {
+		out[i] = byte(i)
+	}
+	return out
+}
+
 // Changed is b with some bits of one byte turned.
 func Changed(b []byte, at int, bits byte) []byte {
 	out := bytes.Clone(b)
@@ -51,6 +60,23 @@ func WantBytes(t T, what string, got, want []byte) {
 	if !bytes.Equal(got, want) {
 		t.Fatalf("%s: got %d bytes %.40x, want %d bytes %.40x", what, len(got), got, len(want), want)
 	}
+}
+
+// WantHex is for bytes that are written out, each as two digits.
+func WantHex(t T, what string, got []byte, want string) {
+	t.Helper()
+	if hexOf(got) != want {
+		t.Fatalf("%s: got %x, want %s", what, got, want)
+	}
+}
+
+func hexOf(b []byte) string {
+	const digits = "0123456789abcdef"
+	var out []byte
+	for _, x := range b {
+		out = append(out, digits[x>>4], digits[x&15])
+	}
+	return string(out)
 }
 
 func WantNumbers(t T, what string, got, want []int) {

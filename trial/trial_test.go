@@ -45,6 +45,9 @@ func TestBytesToTry(t *testing.T) {
 			}
 		}
 	}
+	if b := trial.Counted(258); len(b) != 258 || b[0] != 0 || b[1] != 1 || b[255] != 255 || b[257] != 1 {
+		t.Errorf("counted: %x", b)
+	}
 	b := []byte{1, 2, 3}
 	if c := trial.Changed(b, 1, 5); !bytes.Equal(c, []byte{1, 7, 3}) || b[1] != 2 {
 		t.Errorf("changed: %x of %x", c, b)
@@ -62,6 +65,18 @@ func TestWants(t *testing.T) {
 	}
 	if found(func(h trial.T) { trial.WantErr(h, "", api.ErrArg, api.ErrArg) }) || !found(func(h trial.T) { trial.WantErr(h, "", api.OK, api.ErrArg) }) {
 		t.Error("errors are not told apart")
+	}
+}
+
+func TestWrittenOut(t *testing.T) {
+	b := []byte{0, 9, 10, 159, 255}
+	if found(func(h trial.T) { trial.WantHex(h, "", b, "00090a9fff") }) || found(func(h trial.T) { trial.WantHex(h, "", nil, "") }) {
+		t.Error("bytes are not as they are written out")
+	}
+	for _, want := range []string{"", "00090a9f", "00090a9fff00", "00090a9ffe", "10090a9fff", "00090A9FFF"} {
+		if !found(func(h trial.T) { trial.WantHex(h, "", b, want) }) {
+			t.Errorf("%x is taken for %s", b, want)
+		}
 	}
 }
 
